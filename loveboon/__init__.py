@@ -1,0 +1,1 @@
+"""Loveboon: work that is pledged on what others give."""
