@@ -25,6 +25,8 @@ FORMS_OUT = (
     ast.AsyncFor, ast.AsyncWith, ast.GeneratorExp, ast.NamedExpr, ast.Div, ast.Import, ast.MatMult,
 )
 METHODS_IN = {"__init__", "__eq__", "__repr__", "__str__", "__len__"}
+WALKED_AT_ONCE = {"zip", "enumerate", "reversed", "range"}
+WALKERS = {"list", "tuple", "dict", "sorted", "sum", "any", "all", "enumerate", "zip", "bytes", "min", "max"}
 
 
 def files():
@@ -35,6 +37,24 @@ def nodes():
     for file in files():
         for node in ast.walk(ast.parse(file.read_text("utf-8"))):
             yield f"{file.name}:{getattr(node, 'lineno', 0)}", node
+
+
+def trees():
+    for file in files():
+        yield file.name, ast.parse(file.read_text("utf-8"))
+
+
+def called(node):
+    """The plain name that a call calls, or an empty text."""
+    return node.func.id if isinstance(node, ast.Call) and isinstance(node.func, ast.Name) else ""
+
+
+def drawn_from(tree):
+    """The package's files that a file draws names from, with the names."""
+    return [
+        (row.module.partition(".")[2], [name.name for name in row.names])
+        for row in tree.body if isinstance(row, ast.ImportFrom) and row.module != "__future__"
+    ]
 
 
 class LanguageTest(unittest.TestCase):
@@ -94,6 +114,60 @@ class LanguageTest(unittest.TestCase):
                 if hasattr(builtins, node.id):
                     self.assertIn(node.id, PYTHONS_OWN, f"L8 {place}")
                     self.assertIsInstance(node.ctx, ast.Load, f"L15 {place}")
+
+    def test_no_local_is_called_like_an_import_or_a_class(self):
+        for file, tree in trees():
+            taken = {name for module, names in drawn_from(tree) for name in names}
+            taken |= {row.name for row in tree.body if isinstance(row, ast.ClassDef)}
+            for node in ast.walk(tree):
+                if isinstance(node, ast.Name) and isinstance(node.ctx, ast.Store):
+                    self.assertNotIn(node.id, taken, f"L15 {file}:{node.lineno}")
+                if isinstance(node, ast.arg):
+                    self.assertNotIn(node.arg, taken, f"L15 {file}:{node.lineno}")
+
+    def test_names_are_drawn_from_the_files_that_define_them_and_never_round(self):
+        draws = {file[:-len(".py")]: drawn_from(tree) for file, tree in trees()}
+        tops = {file[:-len(".py")]: {
+            name for row in tree.body for name in (
+                [row.name] if isinstance(row, (ast.FunctionDef, ast.ClassDef))
+                else [target.id for target in row.targets] if isinstance(row, ast.Assign) else []
+            )
+        } for file, tree in trees()}
+        for file, pairs in draws.items():
+            for module, names in pairs:
+                self.assertLessEqual(set(names), tops[module], f"L16 {file}")
+        left = dict(draws)
+        while left:
+            ready = [file for file in left if not any(module in left for module, names in left[file])]
+            self.assertTrue(ready, f"L16 {sorted(left)}")
+            for file in ready:
+                del left[file]
+
+    def test_walked_at_once_and_sets(self):
+        for file, tree in trees():
+            walked = set()
+            held = set()
+            for node in ast.walk(tree):
+                if isinstance(node, (ast.For, ast.comprehension)):
+                    walked.add(node.iter)
+                if called(node) in WALKERS:
+                    walked.update(node.args[:1])
+                if called(node) in ("zip", "min", "max"):
+                    walked.update(node.args)
+                if called(node) in ("sorted", "len"):
+                    held.update(node.args)
+            for node in ast.walk(tree):
+                if called(node) in WALKED_AT_ONCE:
+                    self.assertIn(node, walked, f"L23 {file}:{node.lineno}")
+                if isinstance(node, (ast.Set, ast.SetComp)) or called(node) in ("set", "frozenset"):
+                    self.assertIn(node, held, f"L24 {file}:{node.lineno}")
+
+    def test_texts_and_errors(self):
+        for place, node in nodes():
+            if isinstance(node, ast.Constant) and isinstance(node.value, str):
+                self.assertNotIn("%", node.value, f"L27 {place}")
+            if isinstance(node, ast.Raise) and node.exc is not None:
+                self.assertNotEqual(called(node.exc), "", f"L19 {place}")
 
 
 if __name__ == "__main__":
