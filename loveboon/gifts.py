@@ -37,6 +37,11 @@ def met(one, other):
     return tuple([min(step, beside) for step, beside in zip(one, other)])
 
 
+def lifted(giving, high, crowd):
+    """The giving with the steps of a high one for those of a crowd."""
+    return tuple([high[one] if one in crowd else step for one, step in enumerate(giving)])
+
+
 def size(tops):
     """How many givings the box has."""
     many = 1

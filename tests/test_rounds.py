@@ -8,45 +8,13 @@ from loveboon.pledges import is_pledge
 from loveboon.rounds import (
     clear, even, fall, greatest, kept, least, rise, roof, shows_greatest, shows_least, what_is_due,
 )
-from tests.looks import FREE, NEVER, Maker, all_below, due_at, is_above
-
-# 0 gives 1 freely, 2 if 1 gives 1; 1 gives 1 if 0 gives 1, 3 if 2 gives 2; 2 pledged nothing.
-CHAIN = [
-    [((1, FREE), (2, ("gives", 1, 1)))],
-    [((1, ("gives", 0, 1)),), ((3, ("gives", 2, 2)),)],
-    [],
-]
-# Each of two gives 2 if the other gives 2, and 1 gives 1 if 0 gives 1.
-KNOT = [
-    [((2, ("gives", 1, 2)),)],
-    [((1, ("gives", 0, 1)), (2, ("gives", 0, 2)))],
-]
-
-
-def ring(many):
-    """A book in which each gives a step more than the one ahead, 0 freely."""
-    steps = [min(one + 1, 9) for one in range(many)]
-    return [[((1, FREE),)]] + [[((steps[one], ("gives", one - 1, steps[one - 1])),)] for one in range(1, many)]
-
-
-def made_books():
-    """Pairs of a book and a floor, of one to four folk, with all steps at most 3."""
-    maker = Maker(12)
-    made = []
-    for at in range(120):
-        many = 1 + at % 4
-        book = maker.book(many, 3)
-        floor = (0,) * many if at % 3 == 0 else maker.giving((1, 0, 3, 1)[:many])
-        made.append((book, floor))
-    return made
-
-
-BOOKS = [(CHAIN, (0, 0, 0)), (CHAIN, (0, 0, 2)), (KNOT, (0, 0)), (KNOT, (1, 0)), (KNOT, (2, 0))] + made_books()
+from tests.books import BOOKS, CHAIN, KNOT, chain
+from tests.looks import FREE, NEVER, all_below, due_at, is_above
 
 
 class BooksTest(unittest.TestCase):
     def test_the_looked_at_ones(self):
-        for book, floor in BOOKS + [(ring(many), (0,) * many) for many in range(1, 13)]:
+        for book, floor in BOOKS + [(chain(many), (0,) * many) for many in range(1, 13)]:
             self.assertEqual(len(book), len(floor))
             for one, pledges in enumerate(book):
                 for pledge in pledges:
@@ -84,8 +52,8 @@ class DueTest(unittest.TestCase):
             nobody = [[] for _ in range(many)]
             self.assertEqual(what_is_due(nobody, noughts, nines), noughts)
             self.assertEqual(what_is_due(nobody, nines, noughts), nines)
-            self.assertEqual(what_is_due(ring(many), noughts, noughts), (1,) + (0,) * (many - 1))
-            self.assertEqual(what_is_due(ring(many), noughts, nines), tuple(min(one + 1, 9) for one in range(many)))
+            self.assertEqual(what_is_due(chain(many), noughts, noughts), (1,) + (0,) * (many - 1))
+            self.assertEqual(what_is_due(chain(many), noughts, nines), tuple(min(one + 1, 9) for one in range(many)))
 
     def test_by_a_look_at_all_givings(self):
         for book, floor in BOOKS:
@@ -125,7 +93,7 @@ class DueTest(unittest.TestCase):
         self.assertEqual(roof([[((7, FREE),), ((2, FREE), (8, NEVER)), ((3, FREE),)]], (0,)), (8,))
         self.assertEqual(roof([[], []], (0, 3)), (0, 3))
         for many in range(1, 13):
-            self.assertEqual(roof(ring(many), (0,) * many), tuple(min(one + 1, 9) for one in range(many)))
+            self.assertEqual(roof(chain(many), (0,) * many), tuple(min(one + 1, 9) for one in range(many)))
         for book, floor in BOOKS:
             tops = tuple(
                 max([step] + [rung[0] for pledge in pledges for rung in pledge]) for step, pledges in zip(floor, book)
@@ -157,13 +125,13 @@ class RiseAndFallTest(unittest.TestCase):
                 self.assertEqual(rise(nobody, floor), [floor])
                 self.assertEqual(fall(nobody, floor), [floor])
 
-    def test_rings(self):
+    def test_chains(self):
         for many in range(1, 13):
             whole = tuple(min(one + 1, 9) for one in range(many))
             row = [whole[:given] + (0,) * (many - given) for given in range(many + 1)]
-            self.assertEqual(rise(ring(many), (0,) * many), row)
-            self.assertEqual(fall(ring(many), (0,) * many), [whole])
-            unbegun = [[]] + ring(many)[1:]
+            self.assertEqual(rise(chain(many), (0,) * many), row)
+            self.assertEqual(fall(chain(many), (0,) * many), [whole])
+            unbegun = [[]] + chain(many)[1:]
             back = [(0,) * given + whole[given:] for given in range(1, many + 1)]
             self.assertEqual(fall(unbegun, (0,) * many), back)
             self.assertEqual(rise(unbegun, (0,) * many), [(0,) * many])
@@ -227,7 +195,7 @@ class ShowsLeastTest(unittest.TestCase):
             self.assertIs(shows_least(CHAIN, self.floor, row), False, row)
 
     def test_the_rise_does(self):
-        for book, floor in BOOKS + [(ring(12), (0,) * 12)]:
+        for book, floor in BOOKS + [(chain(12), (0,) * 12)]:
             self.assertIs(shows_least(book, floor, rise(book, floor)), True)
 
     def test_an_empty_one(self):
@@ -294,8 +262,8 @@ class ShowsGreatestTest(unittest.TestCase):
 
     def test_the_fall_does(self):
         self.yes(self.whole)
-        unbegun = [[]] + ring(12)[1:]
-        for book, floor in BOOKS + [(ring(12), (0,) * 12), (unbegun, (0,) * 12)]:
+        unbegun = [[]] + chain(12)[1:]
+        for book, floor in BOOKS + [(chain(12), (0,) * 12), (unbegun, (0,) * 12)]:
             self.assertIs(shows_greatest(book, floor, fall(book, floor)), True)
 
     def test_an_empty_one(self):
