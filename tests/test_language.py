@@ -25,6 +25,11 @@ FORMS_OUT = (
     ast.AsyncFor, ast.AsyncWith, ast.GeneratorExp, ast.NamedExpr, ast.Div, ast.Import, ast.MatMult,
 )
 METHODS_IN = {"__init__", "__eq__", "__repr__", "__str__", "__len__"}
+METHODS_OF_PYTHONS_OWN = set(
+    "append clear copy count endswith extend find get index insert isalnum isalpha isdigit islower isspace isupper"
+    " items join keys ljust lower lstrip partition pop remove replace reverse rfind rjust rpartition rsplit rstrip"
+    " setdefault split splitlines startswith strip update upper values zfill bit_length".split()
+)
 WALKED_AT_ONCE = {"zip", "enumerate", "reversed", "range"}
 WALKERS = {"list", "tuple", "dict", "sorted", "sum", "any", "all", "enumerate", "zip", "bytes", "min", "max"}
 
@@ -42,6 +47,19 @@ def nodes():
 def trees():
     for file in files():
         yield file.name, ast.parse(file.read_text("utf-8"))
+
+
+def is_docstring(row):
+    return isinstance(row, ast.Expr) and isinstance(row.value, ast.Constant) and isinstance(row.value.value, str)
+
+
+def own_methods():
+    return {row.name for place, node in nodes() if isinstance(node, ast.ClassDef)
+            for row in node.body if isinstance(row, ast.FunctionDef) and row.name not in METHODS_IN}
+
+
+def own_values():
+    return {node.attr for place, node in nodes() if isinstance(node, ast.Attribute) and isinstance(node.ctx, ast.Store)}
 
 
 def called(node):
@@ -142,6 +160,46 @@ class LanguageTest(unittest.TestCase):
             self.assertTrue(ready, f"L16 {sorted(left)}")
             for file in ready:
                 del left[file]
+
+    def test_tops_and_class_bodies(self):
+        for file, tree in trees():
+            for row in tree.body:
+                place = f"L3 {file}:{row.lineno}"
+                self.assertTrue(
+                    isinstance(row, (ast.ImportFrom, ast.FunctionDef, ast.ClassDef, ast.Assign)) or is_docstring(row), place
+                )
+                if isinstance(row, ast.Assign):
+                    self.assertTrue(len(row.targets) == 1 and isinstance(row.targets[0], ast.Name), place)
+                    for node in ast.walk(row.value):
+                        self.assertNotIsInstance(node, (ast.Call, ast.Lambda, ast.ListComp, ast.DictComp), place)
+                        if isinstance(node, (ast.List, ast.Dict)):
+                            self.assertIs(node, row.value, f"L15 {file}:{row.lineno}")
+        for place, node in nodes():
+            if isinstance(node, ast.ClassDef):
+                for row in node.body:
+                    self.assertTrue(isinstance(row, ast.FunctionDef) or is_docstring(row), f"L5 {place}")
+
+    def test_methods_and_values(self):
+        methods, values = own_methods(), own_values()
+        self.assertEqual(methods & values, set(), "L18")
+        pythons_own = {name for kind in (str, int, list, dict, set, bytes, tuple) for name in dir(kind)}
+        self.assertEqual((methods | values) & pythons_own, set(), "L26")
+        for file, tree in trees():
+            asked = {node.func for node in ast.walk(tree) if isinstance(node, ast.Call)}
+            for node in ast.walk(tree):
+                if not isinstance(node, ast.Attribute) or node.attr == "__init__":
+                    continue
+                if node in asked:
+                    self.assertIn(node.attr, METHODS_OF_PYTHONS_OWN | methods, f"L25 {file}:{node.lineno}")
+                else:
+                    self.assertIn(node.attr, values, f"L18 {file}:{node.lineno}")
+
+    def test_handlers(self):
+        own = {node.name for place, node in nodes() if isinstance(node, ast.ClassDef)}
+        for place, node in nodes():
+            if isinstance(node, ast.ExceptHandler):
+                self.assertIsInstance(node.type, ast.Name, f"L19 {place}")
+                self.assertIn(node.type.id, own, f"L19 {place}")
 
     def test_walked_at_once_and_sets(self):
         for file, tree in trees():
